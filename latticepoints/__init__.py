@@ -1,0 +1,1 @@
+"""Latticepoints: exact counts of points with integer coordinates in shapes and cones."""
