@@ -38,3 +38,48 @@ def ask_shapes(test, expect, bad, flat, call, behind=()):
         expect(test, bad, call, value, *behind, index=index)
     for value in FLATS:
         expect(test, flat, call, value, *behind)
+
+BOX = (((2, 0), 3), ((-1, 0), 0), ((0, 3), 1), ((0, -1), 0))
+UNIT = (((1,), 1), ((-1,), 0))
+
+BAD_HALVES = (
+    (None, None), (True, None), (3, None), ("", None), ("halves", None), ((), None), ([], None), ({}, None),
+    (list(BOX), None), ((UNIT[0],), None), (UNIT * 5 + UNIT[:1], None), ({(1,): 1, (-1,): 0}, None),
+    ((None, None), 0), (((1,), 1), 0), (("a", "b"), 0), (([(1,), 1], UNIT[1]), 0), (((1, 1), (-1, 0)), 0),
+    ((((1,),), UNIT[1]), 0), ((((1,), 1, 1), UNIT[1]), 0), ((((), 1), ((), 0)), 0), ((((0,), 1), UNIT[1]), 0),
+    ((((0, 0, 0), 1), ((0, 0, 0), 1)), 0), ((((1, 0, 0, 0), 1), ((-1, 0, 0, 0), 1)), 0), ((((51,), 1), UNIT[1]), 0),
+    ((((-51,), 1), UNIT[1]), 0), ((((1,), 1001), UNIT[1]), 0), ((((1,), -1001), UNIT[1]), 0),
+    ((((1,), True), UNIT[1]), 0), ((((True,), 1), UNIT[1]), 0), ((((1,), None), UNIT[1]), 0),
+    ((((1,), (1, 1)), UNIT[1]), 0), ((((1,), "1"), UNIT[1]), 0), ((("1", 1), UNIT[1]), 0), ((([1], 1), UNIT[1]), 0),
+    ((({0: 1}, 1), UNIT[1]), 0), ((((None,), 1), None), 0), (((((1,),), 1), UNIT[1]), 0),
+    ((UNIT[0], None), 1), ((UNIT[0], ((-1, 0), 0)), 1), ((UNIT[0], ((0,), 0)), 1), ((UNIT[0], [(-1,), 0]), 1),
+    ((UNIT[0], ((-1,), False)), 1), ((BOX[0], ((-1,), 0), None), 1), ((BOX[0], ((-1, 0, 0), 0)), 1),
+    ((BOX[0], ((0, 0), 0), ((0, 3), 1)), 1), ((BOX[0], {}), 1), ((UNIT[0], UNIT), 1),
+    (BOX[:3] + (((0, 0), 0),), 3), (BOX[:3] + (((0, -1), 10 ** 30),), 3), (UNIT * 4 + UNIT[:1] + (((2,), []),), 9),
+    # Without an end as well, but the wrong item is told first.
+    ((((1, 0), 1), ((0, 1), 1), ((0, 1), 1001)), 2),
+)
+
+UNBOUNDED = ((((1,), 1), ((2,), 3)), (((-1,), 1), ((-7,), -3)), (((1, 0), 1), ((-1, 0), 1)),
+             (((1, 0), 1), ((-1, 0), 1), ((0, 1), 1)), (((1, 1), 0), ((-1, -1), 5)), (((1, 1), 0), ((1, 1), 5)),
+             BOX[:3], (((1, 2), 0), ((-3, -7), 0), ((0, -1), 0), ((-1, -2), 0)),
+             (((1, 0, 0), 1), ((-1, 0, 0), 1)), (((1, 0, 0), 1), ((-1, 0, 0), 1), ((0, 1, 0), 1), ((0, -1, 0), 1)),
+             (((2, 4, 6), 1), ((-1, -2, -3), 0), ((1, 2, 3), 9)),
+             (((1, 0, 0), 1), ((-1, 0, 0), 1), ((0, 1, 0), 1), ((0, -1, 0), 1), ((0, 0, 1), 0), ((1, 1, 1), 1)),
+             # Empty as well, but this is told first.
+             (((1, 0), -1), ((-1, 0), 0)), (((1, 0), 0), ((1, 0), -5), ((-1, 0), -7), ((0, 1), 1)))
+
+EMPTY = ((((1,), -1), ((-1,), 0)), (((3,), 2), ((-3,), -3)), (((1,), -1000), ((-1,), -1000)),
+         BOX + (((1, 1), -1),), (((50, 0), -1), ((-50, 0), 0), ((0, 1), 0), ((0, -1), 0)),
+         (((1, 0, 0), 1), ((0, 1, 0), 1), ((0, 0, 1), 1), ((-1, -1, -1), -4)))
+
+
+def ask_halves(test, expect, errors, call, behind=()):
+    """Ask a function whose first argument is halves for its errors (BadHalves, Unbounded, Empty)."""
+    bad, unbounded, empty = errors
+    for value, index in BAD_HALVES:
+        expect(test, bad, call, value, *behind, index=index)
+    for value in UNBOUNDED:
+        expect(test, unbounded, call, value, *behind)
+    for value in EMPTY:
+        expect(test, empty, call, value, *behind)

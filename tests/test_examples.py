@@ -26,6 +26,24 @@ raises Flat()
 >>> from latticepoints.shapes import corners
 >>> corners(((0, 0), (1, 0), (0, 51)))
 raises BadShape(index=2)
+
+>>> from latticepoints.halves import corners_of
+>>> corners_of((((2, 0), 3), ((-1, 0), 0), ((0, 3), 1), ((0, -1), 0)))
+(((0, 1), (0, 1)), ((0, 1), (1, 3)), ((3, 2), (0, 1)), ((3, 2), (1, 3)))
+
+>>> from latticepoints.multiples import border_content, ehrhart, points_of, quasi_count
+>>> half = (((2,), 1), ((-1,), 0))
+>>> [ehrhart(((0, 0), (1, 0), (0, 1))), border_content(((0, 0), (1, 0), (0, 1))), quasi_count(half), points_of(half, 5)]
+[((1, 1), (3, 2), (1, 2)), 3, (((1, 1), (1, 2)), ((1, 2), (1, 2))), ((0,), (1,), (2,))]
+
+>>> from latticepoints.widths import product, pyramid, width
+>>> [product(((0,), (1,)), ((0,), (2,))), pyramid(((0,), (1,))), width(((0, 0), (3, 0), (0, 3)))[0]]
+[((0, 0), (0, 2), (1, 0), (1, 2)), ((0, 0), (0, 1), (1, 0)), 3]
+
+>>> from latticepoints.parting import is_normal, unparted
+>>> empty = ((0, 0, 0), (1, 0, 0), (0, 1, 0), (1, 1, 2))
+>>> [unparted(empty, 2), is_normal(empty), is_normal(((0, 0), (3, 1), (1, 3)))]
+[((1, 1, 1),), False, True]
 '''
 
 
@@ -44,7 +62,7 @@ def told(lines):
 class Examples(unittest.TestCase):
     def test_examples(self):
         examples = EXAMPLES.strip().split("\n\n")
-        self.assertEqual(len(examples), 6)
+        self.assertEqual(len(examples), 10)
         for example in examples:
             *lines, answer = example.split("\n")
             with self.subTest(example=lines[-1]):
