@@ -53,12 +53,10 @@ def ground_of(corners, side):
 
 
 def edges_of(corners, sides):
-    """Return the edges of a solid, pairs of corners; there are none for a segment or a polygon."""
-    if len(corners[0]) < 3:
-        return []
+    """Return the edges of a solid, pairs of corners; for a segment or a polygon there are none."""
     grounds = [ground_of(corners, side) for side in sides]
     shared = [[point for point in one if point in other] for one, other in combinations(grounds, 2)]
-    # Two facets of a solid share no point, a corner, or an edge.
+    # Two facets share no point, a corner, or, of a solid only, an edge.
     return [tuple(common) for common in shared if len(common) == 2]
 
 

@@ -208,6 +208,13 @@ class Quasi(unittest.TestCase):
             self.assertGreater(period_of(corners_by_pairs(halves)), 60)
             expect(self, TooMany, quasi_count, halves, most=60)
 
+    def test_odd_periods(self):
+        for one, other in ((49, 1), (1, 47), (9, 5), (11, 5), (19, 3)):
+            quasi = quasi_count((((one,), 1), ((-other,), 1)))
+            self.assertEqual(len(quasi), one * other)
+            self.assertEqual([quasi_value_of(quasi, n) for n in range(200)],
+                             [n // one + n // other + 1 for n in range(200)])
+
     def test_limit_of_the_boxes(self):
         seen = set()
         for far in (1, 80, 117, 118, 119, 133, 200, 418, 419, 422, 423, 424, 426, 1000):
@@ -223,6 +230,11 @@ class Quasi(unittest.TestCase):
                 else:
                     self.assertEqual(period % len(quasi_count(halves)), 0)
         self.assertEqual(len(seen), 6)
+
+    def test_sixty_one(self):
+        halves = (((6, 5), 1), ((-5, 6), 4), ((0, -1), 1))
+        self.assertEqual(period_of(corners_by_pairs(halves)), 61)
+        expect(self, TooMany, quasi_count, halves, most=60)
 
     def test_period_is_told_ahead_of_the_boxes(self):
         expect(self, TooMany, quasi_count, (((49,), 1000), ((-50,), 999)), most=60)

@@ -5,7 +5,7 @@ from latticepoints.errors import LatticeError
 
 # Of every kind that callers may pass; none of them is a right argument of any function, but for integers
 # where a function takes those of any size.
-KINDS = (None, True, False, "", "0", "points", [], {}, [0], [1, 2], {0: 1}, {"a": (1, 2)}, (None,), (True,),
+KINDS = (None, True, False, "", "0", "points", (), [], {}, [0], [1, 2], {0: 1}, {"a": (1, 2)}, (None,), (True,),
          ("a",), ([],), ({},), ((None,),), ((True, False),), (("a", "b"),), ([1, 2], [3, 4]), ([(0, 1)],),
          (((((),),),),), [[0, 0], [1, 0], [0, 1]], [(0, 0), (1, 0), (0, 1)], {(0, 0): 1, (1, 0): 2},
          (None, None), ("solution", None), ((1, 2, 3), "ab"), ((0, 0), None), ((0, 0), (1, True), (0, 1)))
