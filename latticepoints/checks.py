@@ -21,3 +21,15 @@ def is_row(value, shortest, longest, bound):
     if not is_long(value, shortest, longest):
         return False
     return all(is_between(number, -bound, bound) for number in value)
+
+
+def is_whole_row(value, size):
+    """Tell whether a value is a tuple of so many integers, of any size."""
+    return is_long(value, size, size) and all(is_whole(number) for number in value)
+
+
+def are_places(value, many):
+    """Tell whether a value is a tuple of integers from 0 to many - 1, each greater than the one ahead of it."""
+    if not isinstance(value, tuple) or not all(is_between(place, 0, many - 1) for place in value):
+        return False
+    return all(one < other for one, other in zip(value, value[1:]))

@@ -1,7 +1,7 @@
 """Lattices of rows, and equations in integers (points 4 and 5)."""
-from latticepoints.checks import is_long, is_row, is_whole
+from latticepoints.checks import is_long, is_row, is_whole_row
 from latticepoints.errors import BadGoal, BadRows, BadVector
-from latticepoints.lattices import lead_of, reduced
+from latticepoints.lattices import bezout, lead_of, reduced
 from latticepoints.ratios import ZERO, are_ratios, minus, over, ratio, weighed
 from latticepoints.vectors import combined, determinant, divisor_of, opposite
 
@@ -57,17 +57,6 @@ def begun_with(vector):
     factor, turn = bezout(by, last)
     final = tuple(-turn * number for number in start) + (factor,)
     return [vector] + [row + (0,) for row in inner[1:]] + [final]
-
-
-def bezout(one, other):
-    """Return (x, y) with one * x + other * y being 1, y from 0 to one - 1 if one is not 0."""
-    basis, ways = reduced(((one,), (other,)))
-    x, y = ways[0]
-    if one != 0:
-        # The other solutions differ by multiples of (other, -one).
-        turn = y // one
-        x, y = x + turn * other, y - turn * one
-    return x, y
 
 
 def solve(rows, goal):
@@ -126,9 +115,7 @@ def shows(rows, goal, value):
 
 def is_solution(rows, goal, value):
     """Tell whether a value is a tuple of factors of the rows whose sum is the goal."""
-    if not is_long(value, len(rows), len(rows)) or not all(is_whole(number) for number in value):
-        return False
-    return combined(value, rows) == goal
+    return is_whole_row(value, len(rows)) and combined(value, rows) == goal
 
 
 def is_mixture(rows, goal, value):

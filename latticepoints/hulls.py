@@ -74,6 +74,19 @@ def facet_content(ground, edges):
     return sum(divisor_of(across(ways_from_first(simplex), size)) for simplex in cut_facet(ground, edges))
 
 
+def cut_hull(points, sides):
+    """Return simplices, lists of d + 1 corners, into which the hull is cut."""
+    corners = corners_of_hull(points, sides)
+    edges = edges_of(corners, sides)
+    top = corners[0]
+    found = []
+    for a, b in sides:
+        if dot(a, top) != b:
+            parts = cut_facet(ground_of(corners, (a, b)), edges)
+            found.extend([[top] + part for part in parts])
+    return found
+
+
 def hull_content(points, sides):
     """Return the volume of the hull times d!, and the sum of the contents of its facets."""
     corners = corners_of_hull(points, sides)

@@ -50,3 +50,14 @@ def swept(work, column):
     if pivot[column] < 0:
         pivot = tuple(-number for number in pivot)
     return pivot, zeros
+
+
+def bezout(one, other):
+    """Return (x, y) with one * x + other * y being 1, y from 0 to one - 1 if one is above 0."""
+    basis, ways = reduced(((one,), (other,)))
+    x, y = ways[0]
+    if one != 0:
+        # The other solutions differ by multiples of (other, -one).
+        turn = y // one
+        x, y = x + turn * other, y - turn * one
+    return x, y

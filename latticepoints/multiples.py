@@ -10,15 +10,20 @@ MOST_MULTIPLE = 1000
 MOST_PERIOD = 60
 
 
+def counts_of(shape):
+    """Return the list of the numbers of points in the multiples 0 to d of a shape."""
+    boxes = [box_of(shape, n) for n in range(1, len(shape[0]) + 1)]
+    sides = facets_of(shape)
+    counts = [1]
+    for index, (low, high) in enumerate(boxes):
+        counts.append(count_within(lifted(sides, index + 1, 0), low, high))
+    return counts
+
+
 def ehrhart(shape):
     """Return the polynomial whose value at n from 1 on is the number of points in the multiple n of a shape."""
     check_shape(shape)
-    boxes = [box_of(shape, n) for n in range(1, len(shape[0]) + 1)]
-    sides = facets_of(shape)
-    counts = [(1, 1)]
-    for index, (low, high) in enumerate(boxes):
-        counts.append((count_within(lifted(sides, index + 1, 0), low, high), 1))
-    return through(tuple(counts))
+    return through(tuple((count, 1) for count in counts_of(shape)))
 
 
 def border_content(shape):

@@ -52,3 +52,26 @@ def weighed(numbers, ratios):
     for number, part in zip(numbers, ratios):
         total = plus(total, times((number, 1), part))
     return total
+
+
+def divided(one, other):
+    """Return a ratio over another one, which is not 0."""
+    return ratio(one[0] * other[1], one[1] * other[0])
+
+
+def whole_power(base, n):
+    """Return an integer to the power n, from 0 on."""
+    total = 1
+    while n > 0:
+        if n % 2 == 1:
+            total *= base
+        base *= base
+        n //= 2
+    return total
+
+
+def raised(one, n):
+    """Return a ratio other than 0 to the power of any integer."""
+    if n < 0:
+        return ratio(whole_power(one[1], -n), whole_power(one[0], -n))
+    return (whole_power(one[0], n), whole_power(one[1], n))

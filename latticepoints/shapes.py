@@ -2,7 +2,7 @@
 from itertools import combinations
 
 from latticepoints.boxes import check_box, points_within
-from latticepoints.checks import is_between, is_long, is_row, is_whole
+from latticepoints.checks import is_between, is_long, is_row, is_whole_row
 from latticepoints.errors import BadNumber, BadPoint, BadShape, Flat
 from latticepoints.hulls import corners_of_hull, edges_of, facets_of, hull_content, ways_from_first
 from latticepoints.vectors import determinant, dot
@@ -58,7 +58,7 @@ def facets(shape):
 def place_in(shape, p):
     """Return 1 if a point lies inside of a shape, 0 if on its border, -1 if outside."""
     check_shape(shape)
-    if not is_long(p, len(shape[0]), len(shape[0])) or not all(is_whole(number) for number in p):
+    if not is_whole_row(p, len(shape[0])):
         raise BadPoint("not a tuple of as many integers as the shape has dimensions")
     most = max(dot(a, p) - b for a, b in facets_of(shape))
     if most > 0:

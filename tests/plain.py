@@ -226,3 +226,120 @@ def divisor(numbers):
 def moved(points, rows, shift):
     """The points taken by rows and a shift."""
     return tuple(tuple(sum(x * y for x, y in zip(row, p)) + s for row, s in zip(rows, shift)) for p in points)
+
+
+class Frame:
+    """Vectors that span, and the parts that they have in points: p is the sum of parts[k] / whole times vector k."""
+
+    def __init__(self, vectors):
+        self.vectors = vectors
+        self.whole = abs(det(vectors))
+        columns = [solve_square(list(zip(*vectors)), unit) for unit in units_of(len(vectors))]
+        self.rows = [[int(column[k] * self.whole) for column in columns] for k in range(len(vectors))]
+
+    def parts(self, p):
+        return [sum(x * y for x, y in zip(row, p)) for row in self.rows]
+
+    def holds(self, p, places):
+        """Whether p is in the cone of the vectors that is open at the places; p may be any multiple of a point."""
+        return all(part > 0 if k in places else part >= 0 for k, part in enumerate(self.parts(p)))
+
+    def tile(self, places):
+        """All points with parts from 0 to whole - 1, for the places from 1 to whole, by a box around them."""
+        columns = list(zip(*self.vectors))
+        ranges = [range(sum(min(x, 0) for x in column), sum(max(x, 0) for x in column) + 1) for column in columns]
+        lows = [1 if k in places else 0 for k in range(len(columns))]
+        return [p for p in itertools.product(*ranges)
+                if all(low <= part < low + self.whole for low, part in zip(lows, self.parts(p)))]
+
+
+def all_places(many):
+    """All ascending tuples of places from 0 to many - 1."""
+    return [places for size in range(many + 1) for places in itertools.combinations(range(many), size)]
+
+
+def random_cones(seed, size, bound, many, far=9):
+    """Some cones of a dimension, with numbers of the vectors up to bound."""
+    chance = random.Random(seed)
+    cones = []
+    while len(cones) < many:
+        vectors = tuple(tuple(chance.randint(-bound, bound) for _ in range(size)) for _ in range(size))
+        if det(vectors) and all(divisor(vector) == 1 for vector in vectors):
+            apex = tuple(chance.randint(-far, far) for _ in range(size))
+            cones.append((apex, vectors, chance.choice(all_places(size))))
+    return cones
+
+
+FRAMES = {}
+
+
+def frame_of(vectors):
+    if vectors not in FRAMES:
+        FRAMES[vectors] = Frame(vectors)
+    return FRAMES[vectors]
+
+
+def cone_holds(cone, p, scale=1):
+    """Whether p over scale is in a cone."""
+    apex, vectors, places = cone
+    return frame_of(vectors).holds([x - scale * y for x, y in zip(p, apex)], places)
+
+
+def power_of(z, p):
+    """z to the p, a fraction; z are ratios."""
+    total = Fraction(1)
+    for factor, n in zip(z, p):
+        total *= as_fraction(factor) ** n
+    return total
+
+
+def random_maps(seed, many, steps=3):
+    """Some rows of determinant 1 or -1 and shifts, in the plane."""
+    chance = random.Random(seed)
+    found = []
+    for _ in range(many):
+        rows = chance.choice((((1, 0), (0, 1)), ((0, 1), (1, 0)), ((1, 0), (0, -1)), ((0, -1), (1, 0))))
+        for _ in range(chance.randint(0, steps)):
+            k = chance.choice((-2, -1, 1, 2))
+            by = chance.choice((((1, k), (0, 1)), ((1, 0), (k, 1))))
+            rows = tuple(tuple(sum(x * y for x, y in zip(row, column)) for column in zip(*by)) for row in rows)
+        found.append((rows, (chance.randint(-9, 9), chance.randint(-9, 9))))
+    return found
+
+
+def hull_facets(points):
+    """All facets, by all planes through d points."""
+    found = set()
+    for group in itertools.combinations(points, len(points[0])):
+        ways = [[x - y for x, y in zip(p, group[0])] for p in group[1:]]
+        normal = [det([unit] + ways) for unit in units_of(len(group))]
+        if not any(normal):
+            continue
+        for sign in (1, -1):
+            a = tuple(sign * x // divisor(normal) for x in normal)
+            products = [sum(x * y for x, y in zip(a, p)) for p in points]
+            if products[points.index(group[0])] == max(products):
+                found.add((a, max(products)))
+    return tuple(sorted(found))
+
+
+def fits(counts, many, degree):
+    """Whether so many polynomials of this degree, one for each rest, have these counts."""
+    for rest in range(many):
+        nodes = list(range(rest, len(counts), many))
+        first = nodes[:degree + 1]
+        poly = lagrange(first, [counts[node] for node in first])
+        if any(poly_value(poly, node) != counts[node] for node in nodes):
+            return False
+    return True
+
+
+def series_by_listing(cone, z):
+    """The value, a fraction, by the points of a listed box; None for a pole."""
+    apex, vectors, places = cone
+    total = sum(power_of(z, [x + y for x, y in zip(apex, p)]) for p in Frame(vectors).tile(places))
+    for vector in vectors:
+        if power_of(z, vector) == 1:
+            return None
+        total /= 1 - power_of(z, vector)
+    return total

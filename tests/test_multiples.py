@@ -8,8 +8,8 @@ from latticepoints.errors import BadHalves, BadNumber, BadShape, Empty, Flat, To
 from latticepoints.multiples import border_content, ehrhart, points_of, quasi_count
 from latticepoints.shapes import content
 from tests.faults import BOX, CUBE, EMPTY, GOOD_SHAPES, LINE_OF_12, UNBOUNDED, UNIT, ask_halves, ask_shapes
-from tests.plain import (Hull, corners_by_pairs, lagrange, listed_halves, moved, poly_value, quasi_value_of,
-                         random_halves, random_shapes)
+from tests.plain import (Hull, corners_by_pairs, fits, listed_halves, moved, poly_value, quasi_value_of, random_halves,
+                         random_shapes)
 from tests.wrong import KINDS, expect
 
 HUGE = 10 ** 40
@@ -243,14 +243,3 @@ class Quasi(unittest.TestCase):
     def test_errors(self):
         ask_halves(self, expect, (BadHalves, Unbounded, Empty), quasi_count)
         self.assertTrue(UNBOUNDED and EMPTY)
-
-
-def fits(counts, many, degree):
-    """Whether so many polynomials of this degree, one for each rest, have these counts."""
-    for rest in range(many):
-        nodes = list(range(rest, len(counts), many))
-        first = nodes[:degree + 1]
-        poly = lagrange(first, [counts[node] for node in first])
-        if any(poly_value(poly, node) != counts[node] for node in nodes):
-            return False
-    return True

@@ -5,7 +5,7 @@ import unittest
 from latticepoints.errors import BadNumber, BadPoint, BadShape, Flat, TooMany
 from latticepoints.shapes import content, corners, face_numbers, facets, inner_points, place_in, points_in
 from tests.faults import CUBE, FLATS, GOOD_SHAPES, LINE_OF_12, SQUARE, ask_shapes
-from tests.plain import Hull, det, divisor, in_hull, moved, random_shapes
+from tests.plain import Hull, det, divisor, hull_facets, in_hull, moved, random_shapes
 from tests.wrong import KINDS, NUMBERS, expect
 
 HUGE = 10 ** 40
@@ -20,24 +20,6 @@ SHAPES = (GOOD_SHAPES + (OCTAHEDRON, PRISM, TENT, GRID, FULL_CUBE, CUBE_OF_12, (
           + tuple(random_shapes(13, 3, 2, 20, 6)) + tuple(random_shapes(16, 3, 2, 2, 9)) + tuple(random_shapes(14, 2, 50, 8, 12))
           + tuple(random_shapes(15, 3, 50, 5, 9)))
 SMALL = tuple(shape for shape in SHAPES if max(abs(x) for p in shape for x in p) <= 3)
-
-
-def hull_facets(points):
-    """All facets, by all planes through d points."""
-    size = len(points[0])
-    found = set()
-    for group in itertools.combinations(points, size):
-        ways = [[x - y for x, y in zip(p, group[0])] for p in group[1:]]
-        units = [[1 if j == k else 0 for j in range(size)] for k in range(size)]
-        normal = [det([unit] + ways) for unit in units]
-        if not any(normal):
-            continue
-        for sign in (1, -1):
-            a = tuple(sign * x // divisor(normal) for x in normal)
-            products = [sum(x * y for x, y in zip(a, p)) for p in points]
-            if products[points.index(group[0])] == max(products):
-                found.add((a, max(products)))
-    return tuple(sorted(found))
 
 
 class Corners(unittest.TestCase):
