@@ -48,15 +48,25 @@ def points_within(pairs, low, high):
     return tuple(found)
 
 
-def count_within(pairs, low, high):
-    """Return the number of points of the box from low to high that fulfil all pairs."""
-    # The longest side comes last, as its points are not visited one by one.
+def longest_spans(pairs, low, high):
+    """Return (places, spans): the points of a box that fulfil all pairs, line by line.
+
+    Each span (start, first, last) stands for the points start + (k,), k from first to last, with their numbers in
+    the order of places: the longest side comes last, as its points are not visited one by one.
+    """
     places = sorted(range(len(low)), key=lambda k: high[k] - low[k])
     turned = [(tuple(a[k] for k in places), b) for a, b in pairs]
     bottom = [low[k] for k in places]
     top = [high[k] for k in places]
-    total = 0
+    spans = []
     for start in starts_of(bottom, top):
         first, last = span_behind(turned, start, bottom[-1], top[-1])
-        total += max(0, last - first + 1)
-    return total
+        if first <= last:
+            spans.append((start, first, last))
+    return places, spans
+
+
+def count_within(pairs, low, high):
+    """Return the number of points of the box from low to high that fulfil all pairs."""
+    _, spans = longest_spans(pairs, low, high)
+    return sum(last - first + 1 for _, first, last in spans)

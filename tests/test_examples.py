@@ -44,6 +44,46 @@ raises BadShape(index=2)
 >>> empty = ((0, 0, 0), (1, 0, 0), (0, 1, 0), (1, 1, 2))
 >>> [unparted(empty, 2), is_normal(empty), is_normal(((0, 0), (3, 1), (1, 3)))]
 [((1, 1, 1),), False, True]
+
+>>> from latticepoints.stars import box_points, star
+>>> [star(((0,), (4,))), star(((0, 0, 0), (1, 0, 0), (0, 1, 0), (1, 1, 5))), box_points(((0,), (2,)), (0, 1))]
+[(1, 3), (1, 0, 4, 0), ((1, (1,)), (2, (2,)))]
+
+>>> from latticepoints.reflexive import center_of, is_reflexive, polar
+>>> three = ((1, 0), (0, 1), (-1, -1))
+>>> [is_reflexive(three), polar(three), center_of(((0,), (2,))), center_of(((0,), (3,)))]
+[True, ((-2, 1), (1, -2), (1, 1)), (1,), None]
+
+>>> from latticepoints.forms import alike, all_reflexive, least_form, shows_alike
+>>> square = ((5, 5), (5, 6), (6, 5), (6, 6))
+>>> [least_form(square), len(all_reflexive()), alike(square, ((0, 0), (2, 0), (0, 2))), shows_alike(((0, 0), (1, 0), (0, 1)), ((0, 0), (0, 1), (1, 0)), (((0, 1), (1, 0)), (0, 0)))]
+[((0, 0), (1, 0), (1, 1), (0, 1)), 16, None, True]
+
+>>> from latticepoints.finecuts import fine_cut
+>>> fine_cut(((0, 0), (1, 0), (0, 1)))
+(((0, 0), (0, 1), (1, 0)),)
+
+>>> from latticepoints.cones import cone_box, cone_rows, graded, in_cone, series_value
+>>> wide = ((0, 0), ((1, 0), (1, 3)), ())
+>>> [cone_box(wide), cone_rows(wide), graded(wide, (1, 0), 3), in_cone(wide, (1, 3)), series_value(((3,), ((1,),), ()), ((2, 1),))]
+[((0, 0), (1, 1), (1, 2)), ((3, -1), (0, 1)), (1, 4, 7, 10), True, (-8, 1)]
+
+>>> from latticepoints.brion import corner_cones, count_by_cones
+>>> square = ((0, 0), (0, 1), (1, 0), (1, 1))
+>>> [count_by_cones(square, 10 ** 9), len(corner_cones(square))]
+[1000000002000000001, 4]
+
+>>> from latticepoints.signed import power_sum
+>>> [power_sum(((0,), (1,)), (1,), 2, 10), power_sum(((0, 0), (1, 0), (0, 1)), (1, 1), 1, 2)]
+[385, 8]
+
+>>> from latticepoints.coins import least_by_rest, pay_quasi, two_ways, unpaid, ways, ways_with_all
+>>> [ways((1, 5, 10, 25, 50), 100), ways_with_all((1, 2), 5), unpaid((3, 5)), least_by_rest((3, 5)), two_ways(3, 5, 15), pay_quasi((2,))]
+[292, 2, (1, 2, 4, 7), (0, 10, 5), 2, (((1, 1),), ())]
+
+>>> from latticepoints.threecoins import greatest_unpaid
+>>> [greatest_unpaid(7, 11, 13), greatest_unpaid(13, 7, 11)]
+[30, 30]
 '''
 
 
@@ -62,7 +102,7 @@ def told(lines):
 class Examples(unittest.TestCase):
     def test_examples(self):
         examples = EXAMPLES.strip().split("\n\n")
-        self.assertEqual(len(examples), 10)
+        self.assertEqual(len(examples), 19)
         for example in examples:
             *lines, answer = example.split("\n")
             with self.subTest(example=lines[-1]):

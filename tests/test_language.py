@@ -24,6 +24,15 @@ INTERFACE = {
     "multiples": "ehrhart border_content points_of quasi_count",
     "widths": "width product pyramid",
     "parting": "unparted is_normal",
+    "stars": "star half_open box_points",
+    "reflexive": "is_reflexive polar center_of",
+    "forms": "least_form alike shows_alike all_reflexive",
+    "finecuts": "fine_cut",
+    "cones": "in_cone cone_rows cone_box series_value graded",
+    "brion": "corner_cones unimodular_parts count_by_cones",
+    "signed": "short_parts power_sum",
+    "coins": "ways ways_with_all pay_quasi unpaid least_by_rest two_ways",
+    "threecoins": "greatest_unpaid",
 }
 STATEMENTS = (ast.Import, ast.AsyncFunctionDef, ast.AsyncFor, ast.AsyncWith, ast.Global, ast.Await, ast.Yield,
               ast.YieldFrom, ast.Div, ast.Set, ast.SetComp)
@@ -183,8 +192,6 @@ class Language(unittest.TestCase):
 
     def test_interface_is_defined_in_its_files(self):
         for file, names in INTERFACE.items():
-            if not (ROOT / f"{file}.py").exists():
-                continue
             tree = tree_of(ROOT / f"{file}.py")
             found = {node.name for node in tree.body if isinstance(node, ast.FunctionDef)}
             self.assertLessEqual(set(names.split()), found)
