@@ -1,8 +1,14 @@
 """Points with integer coordinates in a box that fulfil pairs (a, b): a * x is at most b."""
 from latticepoints.errors import TooMany
-from latticepoints.vectors import dot
 
 MOST_POINTS = 20000
+
+
+def bounds_of(points, n):
+    """Return the least and the greatest numbers of the multiple n of points, one of each for each side of their box."""
+    low = [n * min(column) for column in zip(*points)]
+    high = [n * max(column) for column in zip(*points)]
+    return low, high
 
 
 def check_box(low, high):
@@ -22,14 +28,9 @@ def starts_of(low, high):
     return starts
 
 
-def span_behind(pairs, start, first, last):
-    """Return the least and the greatest last number behind a start that fulfils all pairs."""
-    low = first
-    high = last
-    for a, b in pairs:
-        # zip leaves out the last number of a, for which the start has no partner.
-        room = b - dot(a, start)
-        step = a[-1]
+def span_of(rooms, steps, low, high):
+    """Return the least and the greatest number from low to high whose products with the steps fit into the rooms."""
+    for room, step in zip(rooms, steps):
         if step > 0:
             high = min(high, room // step)
         elif step < 0:
@@ -39,31 +40,43 @@ def span_behind(pairs, start, first, last):
     return (low, high)
 
 
+def spans_behind(start, rooms, columns, low, high):
+    """Return the list of the spans of a box behind a start, which leaves these rooms for the other columns."""
+    place = len(start)
+    if place + 1 == len(low):
+        first, last = span_of(rooms, columns[place], low[place], high[place])
+        return [(start, first, last)] if first <= last else []
+    found = []
+    for number in range(low[place], high[place] + 1):
+        rest = [room - step * number for room, step in zip(rooms, columns[place])]
+        found.extend(spans_behind(start + (number,), rest, columns, low, high))
+    return found
+
+
+def spans_within(pairs, low, high):
+    """Return the points of a box that fulfil all pairs, line by line, as the ascending list of spans.
+
+    Each span (start, first, last) stands for the points start + (k,), k from first to last.
+    """
+    rows = [a for a, _ in pairs]
+    rooms = [b for _, b in pairs]
+    return spans_behind((), rooms, list(zip(*rows)), low, high)
+
+
 def points_within(pairs, low, high):
     """Return the ascending tuple of the points of the box from low to high that fulfil all pairs."""
     found = []
-    for start in starts_of(low, high):
-        first, last = span_behind(pairs, start, low[-1], high[-1])
+    for start, first, last in spans_within(pairs, low, high):
         found.extend([start + (number,) for number in range(first, last + 1)])
     return tuple(found)
 
 
 def longest_spans(pairs, low, high):
-    """Return (places, spans): the points of a box that fulfil all pairs, line by line.
-
-    Each span (start, first, last) stands for the points start + (k,), k from first to last, with their numbers in
-    the order of places: the longest side comes last, as its points are not visited one by one.
-    """
+    """Return (places, spans) for the points of a box that fulfil all pairs, their numbers in the order of places."""
+    # The longest side comes last, as the points along it are not visited one by one.
     places = sorted(range(len(low)), key=lambda k: high[k] - low[k])
     turned = [(tuple(a[k] for k in places), b) for a, b in pairs]
-    bottom = [low[k] for k in places]
-    top = [high[k] for k in places]
-    spans = []
-    for start in starts_of(bottom, top):
-        first, last = span_behind(turned, start, bottom[-1], top[-1])
-        if first <= last:
-            spans.append((start, first, last))
-    return places, spans
+    return places, spans_within(turned, [low[k] for k in places], [high[k] for k in places])
 
 
 def count_within(pairs, low, high):

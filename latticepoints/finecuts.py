@@ -1,5 +1,5 @@
 """Cuts of polygons into triangles of the content 1 (point 17)."""
-from latticepoints.boxes import points_within
+from latticepoints.boxes import bounds_of, points_within
 from latticepoints.errors import TooMany
 from latticepoints.forms import check_plane
 from latticepoints.hulls import cut_hull, facets_of, hull_content
@@ -16,8 +16,7 @@ def fine_cut(shape):
     volume, _ = hull_content(shape, sides)
     if volume > MOST_TRIANGLES:
         raise TooMany(MOST_TRIANGLES)
-    low = [min(column) for column in zip(*shape)]
-    high = [max(column) for column in zip(*shape)]
+    low, high = bounds_of(shape, 1)
     points = points_within(sides, low, high)
     found = []
     for triangle in cut_hull(shape, sides):

@@ -1,5 +1,5 @@
 """Polygons up to maps: least forms, and all reflexive polygons (points 16 and 17)."""
-from latticepoints.boxes import points_within
+from latticepoints.boxes import bounds_of, points_within
 from latticepoints.checks import is_long, is_whole_row
 from latticepoints.errors import NotPlane
 from latticepoints.hulls import corners_of_hull, facets_of, ground_of
@@ -123,8 +123,7 @@ def all_reflexive():
 
 def lesser_polygons(shape):
     """Return, for each corner, the points of the hull but this corner, if one of them lies inside of their hull."""
-    low = [min(column) for column in zip(*shape)]
-    high = [max(column) for column in zip(*shape)]
+    low, high = bounds_of(shape, 1)
     points = points_within(facets_of(shape), low, high)
     rests = [tuple(p for p in points if p != end) for end in shape]
     return [rest for rest in rests if has_inner(rest)]

@@ -1,7 +1,7 @@
 """Shapes, the hulls of points with integer coordinates (points 6 and 7)."""
 from itertools import combinations
 
-from latticepoints.boxes import check_box, points_within
+from latticepoints.boxes import bounds_of, check_box, points_within
 from latticepoints.checks import is_between, is_long, is_row, is_whole_row
 from latticepoints.errors import BadNumber, BadPoint, BadShape, Flat
 from latticepoints.hulls import corners_of_hull, edges_of, facets_of, hull_content, ways_from_first
@@ -68,8 +68,7 @@ def place_in(shape, p):
 
 def box_of(shape, n):
     """Return the least and the greatest numbers of the multiple n; TooMany if its box has too many points."""
-    low = [n * min(column) for column in zip(*shape)]
-    high = [n * max(column) for column in zip(*shape)]
+    low, high = bounds_of(shape, n)
     check_box(low, high)
     return low, high
 

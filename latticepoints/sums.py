@@ -1,7 +1,7 @@
 """Sums of powers over all points of the multiples of a shape (point 21)."""
 from math import comb
 
-from latticepoints.boxes import longest_spans
+from latticepoints.boxes import bounds_of, longest_spans
 from latticepoints.hulls import facets_of
 from latticepoints.polynomials import evaluated, interpolated
 from latticepoints.ratios import whole_power
@@ -24,8 +24,7 @@ def sum_at(shape, sides, a, power, node):
     """Return the value of the polynomial of the sums at an integer."""
     if node == 0:
         return whole_power(0, power)
-    low = [abs(node) * min(column) for column in zip(*shape)]
-    high = [abs(node) * max(column) for column in zip(*shape)]
+    low, high = bounds_of(shape, abs(node))
     if node > 0:
         return sum_within(lifted(sides, node, 0), low, high, a, power)
     # At -n it is, up to the sign, the sum over the inner points: E. Ehrhart, I. Macdonald.

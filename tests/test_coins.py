@@ -113,6 +113,8 @@ class PayQuasi(unittest.TestCase):
     def test_limit(self):
         for coins in ((60, 60), (3, 4, 5), (12, 5, 1), (60, 30, 20, 15, 12)):
             self.assertEqual(len(pay_quasi(coins)), 60)
+        for coins, period in (((59,), 59), ((57, 19), 57), ((45, 9, 5), 45), ((53, 1), 53), ((3, 17), 51), ((49, 7), 49)):
+            self.assertEqual(len(pay_quasi(coins)), period)
         for coins in ((59, 60), (7, 9), (8, 9), (7, 6, 5), (16, 5), (58, 57), (1, 2, 3, 4, 7), (60, 7), (60, 8), (13, 5)):
             self.assertGreater(lcm(*coins), 60)
             expect(self, TooMany, pay_quasi, coins, most=60)

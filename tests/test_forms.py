@@ -237,6 +237,9 @@ class ShowsAlike(unittest.TestCase):
                 (((0, 0), (0, 0)), (0, 0)), (((far, far - 1), (1, 1)), (0, 0)), (((0, 1), (1, 0)), (far, -far)),
                 (((0, 1), (1, 0)), ((0, 0), 0)), ((((0, 1), (1, 0)), (0, 0)),)):
             self.assertIs(shows_alike(TRIANGLE, TRIANGLE, value), False, value)
+        for third in itertools.product(range(-2, 3), repeat=2):
+            for rows in ((TURN[0] + (third,)), ((third,) + TURN[0]), ((1, 0), third, (0, 1)), ((1, 0), (0, 1), third)):
+                self.assertIs(shows_alike(TRIANGLE, TRIANGLE, (rows, (0, 0))), False)
         self.assertIs(shows_alike(TRIANGLE, TRIANGLE, TURN), True)
 
     def test_errors(self):

@@ -128,6 +128,10 @@ class Greatest(unittest.TestCase):
             expect(self, BadPair, greatest_unpaid, 5, value, 7)
             expect(self, BadPair, greatest_unpaid, 5, 7, value)
             expect(self, BadPair, greatest_unpaid, value, value, value)
+        # Coins beyond the greatest one that have no common divisor with the others.
+        for order in itertools.permutations((GREATEST + 1, 3, 5)):
+            self.assertTrue(coprime(*order))
+            expect(self, BadPair, greatest_unpaid, *order)
         for coins in ((2, 3, 4), (2, 3, 3), (5, 5, 7), (6, 10, 15), (GREATEST, GREATEST - 1, 3), (6, 35, 143 * 7), (2, 2, 2)):
             for order in itertools.permutations(coins):
                 expect(self, BadPair, greatest_unpaid, *order)
