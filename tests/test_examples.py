@@ -84,6 +84,27 @@ raises BadShape(index=2)
 >>> from latticepoints.threecoins import greatest_unpaid
 >>> [greatest_unpaid(7, 11, 13), greatest_unpaid(13, 7, 11)]
 [30, 30]
+
+>>> from latticepoints.dedekind import corner_count, dedekind
+>>> [dedekind(1, 5), dedekind(2, 5), corner_count(1, 1, 1, 2), corner_count(1, 2, 3, 1)]
+[(1, 5), (0, 1), 10, 8]
+
+>>> from latticepoints.steps import floor_sum, from_steps, least_sums, sail, steps
+>>> [steps(7, 3), from_steps((3, 2)), least_sums((0, 1), (5, -2)), sail((0, 1), (5, -2)), floor_sum(5, 3, 2, 0)]
+[(3, 2, 2), (5, 2), ((0, 1), (1, 0), (3, -1), (5, -2)), ((0, 1), (1, 0), (5, -2)), 5]
+
+>>> from latticepoints.cuts import best, cut_lines, integer_hull, rounds
+>>> box = (((2, 0), 5), ((-1, 0), 0), ((0, 2), 3), ((0, -1), 0))
+>>> [integer_hull(box), rounds(box), best(box, (1, 1))[:3], cut_lines(box, (((0, (1, 2)),),))]
+[((0, 0), (0, 1), (2, 0), (2, 1)), 1, ('best', 3, (2, 1)), (((1, 0), 2),)]
+
+>>> from latticepoints.cuts import integer_hull
+>>> integer_hull((((3, 0), 2), ((-3, 0), -1), ((0, 1), 1), ((0, -1), 0)))
+raises NoPoint()
+
+>>> from latticepoints.orders import extensions, load, loaded_count, order_polynomial, unload
+>>> [order_polynomial((2, ((0, 1),))), extensions((3, ())), unload((3, ((0, 1), (1, 2))), (1, 3, 3)), load((3, ((0, 2), (1, 2))), (1, 4, 2)), loaded_count((2, ((0, 1),)), 2)]
+[((1, 1), (3, 2), (1, 2)), 6, (1, 2, 0), (1, 4, 6), 6]
 '''
 
 
@@ -102,7 +123,7 @@ def told(lines):
 class Examples(unittest.TestCase):
     def test_examples(self):
         examples = EXAMPLES.strip().split("\n\n")
-        self.assertEqual(len(examples), 19)
+        self.assertEqual(len(examples), 24)
         for example in examples:
             *lines, answer = example.split("\n")
             with self.subTest(example=lines[-1]):

@@ -33,6 +33,10 @@ INTERFACE = {
     "signed": "short_parts power_sum",
     "coins": "ways ways_with_all pay_quasi unpaid least_by_rest two_ways",
     "threecoins": "greatest_unpaid",
+    "dedekind": "dedekind corner_count",
+    "steps": "steps from_steps least_sums sail floor_sum",
+    "cuts": "integer_hull cut_lines best rounds",
+    "orders": "order_polynomial extensions unload load loaded_count",
 }
 STATEMENTS = (ast.Import, ast.AsyncFunctionDef, ast.AsyncFor, ast.AsyncWith, ast.Global, ast.Await, ast.Yield,
               ast.YieldFrom, ast.Div, ast.Set, ast.SetComp)
