@@ -1,7 +1,7 @@
 """The examples of the interface, word for word."""
 import unittest
 
-EXAMPLES = '''
+EXAMPLES = r'''
 >>> from latticepoints.polynomials import least_quasi, poly_product, quasi_value, through, value_at
 >>> [through(((0, 1), (1, 1), (4, 1))), value_at(((1, 2), (1, 2)), 3), poly_product(((1, 1), (1, 1)), ((-1, 1), (1, 1))), quasi_value(((), ((1, 1),)), -3), least_quasi((((1, 1),),) * 4)]
 [((0, 1), (0, 1), (1, 1)), (2, 1), ((-1, 1), (0, 1), (1, 1)), (1, 1), (((1, 1),),)]
@@ -105,6 +105,31 @@ raises NoPoint()
 >>> from latticepoints.orders import extensions, load, loaded_count, order_polynomial, unload
 >>> [order_polynomial((2, ((0, 1),))), extensions((3, ())), unload((3, ((0, 1), (1, 2))), (1, 3, 3)), load((3, ((0, 2), (1, 2))), (1, 4, 2)), loaded_count((2, ((0, 1),)), 2)]
 [((1, 1), (3, 2), (1, 2)), 6, (1, 2, 0), (1, 4, 6), 6]
+
+>>> from latticepoints.ordershapes import loaded_shape, order_shape
+>>> [order_shape((2, ((0, 1),))), loaded_shape((2, ((0, 1),)))]
+[((0, 0), (0, 1), (1, 1)), ((0, 0), (0, 1), (1, 0))]
+
+>>> from latticepoints.tables import square_polynomial, table_count
+>>> [table_count((1, 2, 3), (3, 2, 1)), square_polynomial(3)]
+[12, ((1, 1), (9, 4), (15, 8), (3, 4), (1, 8))]
+
+>>> from latticepoints.colorings import coloring_polynomial, open_orientations
+>>> [coloring_polynomial((2, ((0, 1),))), open_orientations((2, ((0, 1),)))]
+[((0, 1), (-1, 1), (1, 1)), ((0,), (1,))]
+
+>>> from latticepoints.texts import read_shape, write_shape
+>>> [write_shape(((0, 0), (-3, 12), (1, 1))), read_shape('0,0;1,0;0,1')]
+['0,0;-3,12;1,1', ((0, 0), (1, 0), (0, 1))]
+
+>>> from latticepoints.texts import read_shape
+>>> read_shape('0,0;01')
+raises BadText(place=5)
+
+>>> from latticepoints.desks import Desk
+>>> desk = Desk()
+>>> [desk.run('a = points 0;2\nb = product a a\nstar b\ncount b 3\nundo'), desk.names(), desk.run('undo\nundo')]
+[('1 6 1', '49', 'b'), ('a',), ('a', 'nothing')]
 '''
 
 
@@ -123,7 +148,7 @@ def told(lines):
 class Examples(unittest.TestCase):
     def test_examples(self):
         examples = EXAMPLES.strip().split("\n\n")
-        self.assertEqual(len(examples), 24)
+        self.assertEqual(len(examples), 30)
         for example in examples:
             *lines, answer = example.split("\n")
             with self.subTest(example=lines[-1]):

@@ -37,7 +37,13 @@ INTERFACE = {
     "steps": "steps from_steps least_sums sail floor_sum",
     "cuts": "integer_hull cut_lines best rounds",
     "orders": "order_polynomial extensions unload load loaded_count",
+    "ordershapes": "order_shape loaded_shape",
+    "tables": "table_count square_polynomial",
+    "colorings": "coloring_polynomial open_orientations",
+    "texts": "write_shape read_shape",
+    "desks": "Desk",
 }
+METHODS = {"desks": {"Desk": "run names shape"}}
 STATEMENTS = (ast.Import, ast.AsyncFunctionDef, ast.AsyncFor, ast.AsyncWith, ast.Global, ast.Await, ast.Yield,
               ast.YieldFrom, ast.Div, ast.Set, ast.SetComp)
 
@@ -197,8 +203,13 @@ class Language(unittest.TestCase):
     def test_interface_is_defined_in_its_files(self):
         for file, names in INTERFACE.items():
             tree = tree_of(ROOT / f"{file}.py")
-            found = {node.name for node in tree.body if isinstance(node, ast.FunctionDef)}
+            found = {node.name for node in tree.body if isinstance(node, (ast.FunctionDef, ast.ClassDef))}
             self.assertLessEqual(set(names.split()), found)
+        for file, classes in METHODS.items():
+            for node in tree_of(ROOT / f"{file}.py").body:
+                if isinstance(node, ast.ClassDef) and node.name in classes:
+                    found = {inner.name for inner in node.body if isinstance(inner, ast.FunctionDef)}
+                    self.assertLessEqual(set(classes[node.name].split()), found)
 
     def test_every_function_tells_what_it_does(self):
         for path, tree in self.each():
