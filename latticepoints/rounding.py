@@ -15,7 +15,7 @@ def side_between(here, onward):
 
 def clipped(ring, a, b):
     """Return the ring of the part of a set in which a * x is at most b."""
-    heights = [dot((a[0], a[1], -b), corner) for corner in ring]
+    heights = [dot((a[0], a[1], -b), point) for point in ring]
     kept = []
     for k, corner in enumerate(ring):
         if heights[k - 1] * heights[k] < 0:

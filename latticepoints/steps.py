@@ -26,7 +26,7 @@ def steps(n, m):
 
 def from_steps(row):
     """Return the ratio that has these steps."""
-    if not is_long(row, 1, MOST_ROW) or not all(is_between(step, 2, MOST_STEP) for step in row):
+    if not is_long(row, 1, MOST_ROW) or not all(is_between(number, 2, MOST_STEP) for number in row):
         raise BadSteps("not a tuple of 1 to 60 integers from 2 to 1000")
     n, m = 1, 0
     for step in reversed(row):
