@@ -67,6 +67,8 @@ def tell_end(paper, at_most, end, times):
 def hold(paper, halves, frame, level):
     """Tell that a * x is at most the level, on all lines above which there is no point; return the index."""
     at_most = paper.tell(best_bound(halves, frame[0]))
+    # Beyond an edge of the hull the set lies between two lines across it, and as the numbers of the halves are at
+    # most 50 it ends within 26 levels; along a thin frame there are only few. So far fewer than 300 lines are told.
     while paper.known[at_most][1] > level:
         at_most = lowered(paper, halves, frame, at_most)
     return at_most
